@@ -1,0 +1,140 @@
+"""A slow model of trees and crews to test against: it walks unit step by unit step."""
+
+from itertools import permutations
+
+# Every kind of shape, with short roads: these trees are walked step by step.
+SMALL_TREES = [
+    [],
+    [(0, 1)],
+    [(0, 5)],
+    [(0, 1), (0, 1)],
+    [(0, 2), (1, 3), (2, 1)],
+    [(0, 4), (0, 3), (2, 2)],
+    [(0, 2), (0, 1), (0, 3), (0, 2)],
+    [(0, 2), (1, 2), (1, 3), (3, 1), (0, 2)],
+    [(0, 1), (1, 2), (0, 3), (3, 1), (2, 2), (1, 1)],
+    [(0, 2), (0, 1), (2, 2), (1, 1), (4, 2), (4, 1), (3, 1), (0, 3), (8, 1)],
+]
+
+BIG = 123456789012345678901234567890
+
+ODD_VALUES = [
+    None, True, False, 0, 1, -1, 7, 10 ** 30, 1.0, 0.5, 2j, "", "0", "0.0", "(0, 0)", b"", b"00",
+    (), {}, {0: 1}, {0, 1}, frozenset(), object(), range(2), int, len, NotImplemented, ...,
+]
+
+
+def is_same(value, wanted):
+    """Tell whether two results are equal and of the same kinds, part by part."""
+    if type(value) is not type(wanted):
+        return False
+    if isinstance(wanted, (list, tuple)):
+        return len(value) == len(wanted) and all(is_same(a, b) for a, b in zip(value, wanted))
+    return value == wanted
+
+
+def all_points(roads):
+    return [(0, 0)] + [(v, up) for v, (_, length) in enumerate(roads, 1) for up in range(length)]
+
+
+def upper(roads, point):
+    """The point one step nearer to the root."""
+    v, up = point
+    parent, length = roads[v - 1]
+    return (v, up + 1) if up + 1 < length else (parent, 0)
+
+
+def line_up(roads, point):
+    line = [point]
+    while line[-1] != (0, 0):
+        line.append(upper(roads, line[-1]))
+    return line
+
+
+def way(roads, one, other):
+    """All points on the way between two points, in their order, found by a search."""
+    near = {point: [] for point in all_points(roads)}
+    for point in near:
+        if point != (0, 0):
+            above = upper(roads, point)
+            near[point].append(above)
+            near[above].append(point)
+    ways = {one: [one]}
+    queue = [one]
+    for point in queue:
+        for step in near[point]:
+            if step not in ways:
+                ways[step] = ways[point] + [step]
+                queue.append(step)
+    return ways[other]
+
+
+def many_roads(roads, node):
+    """For each node the number of roads from the given one."""
+    found = {node: 0}
+    queue = [node]
+    for at in queue:
+        for child, (parent, _) in enumerate(roads, 1):
+            for a, b in ((child, parent), (parent, child)):
+                if a == at and b not in found:
+                    found[b] = found[at] + 1
+                    queue.append(b)
+    return found
+
+
+def hung_roads(roads, node):
+    """The roads when hung at a node, and the new number of each elder node."""
+    many = many_roads(roads, node)
+    order = sorted(many, key=lambda elder: (many[elder], elder))
+    number = {elder: k for k, elder in enumerate(order)}
+    new = {}
+    for child, (parent, length) in enumerate(roads, 1):
+        a, b = number[child], number[parent]
+        new[max(a, b)] = (min(a, b), length)
+    return [new[k] for k in range(1, len(order))], number
+
+
+def hung_place(roads, node, point):
+    """Where a point is in the tree hung at a node."""
+    number = hung_roads(roads, node)[1]
+    v, up = point
+    if up == 0:
+        return (number[v], 0)
+    parent, length = roads[v - 1]
+    if number[v] > number[parent]:
+        return (number[v], up)
+    return (number[parent], length - up)
+
+
+class Ways:
+    """All distances of a tree, walked once."""
+
+    def __init__(self, roads):
+        self.roads = roads
+        self.lines = {point: line_up(roads, point) for point in all_points(roads)}
+        self.known = {}
+
+    def distance(self, one, other):
+        if (one, other) not in self.known:
+            self.known[one, other] = len(way(self.roads, one, other)) - 1
+        return self.known[one, other]
+
+    def sum_of(self, crew, other, numbers):
+        return sum(self.distance(crew[i], other[k]) for i, k in enumerate(numbers))
+
+    def apart(self, crew, other):
+        return min(self.sum_of(crew, other, numbers) for numbers in permutations(range(len(crew))))
+
+    def cover(self, crew, other):
+        """The cover, as the document says it, step by step."""
+        steps = []
+        for v, (_, length) in enumerate(self.roads, 1):
+            for up in range(length):
+                many = abs(self.lower(crew, (v, up)) - self.lower(other, (v, up)))
+                if many:
+                    steps.append((v, up, many))
+        return steps
+
+    def lower(self, crew, point):
+        """How many helpers walk over this point, or stand at it, when all walk to the root."""
+        return sum(point in self.lines[helper] for helper in crew)

@@ -1,0 +1,51 @@
+"""The interface, and the limits on the package's files that can be counted."""
+
+import inspect
+import unittest
+from pathlib import Path
+
+from bothcome import crews, trees
+
+FOLDER = Path(trees.__file__).parent
+
+
+class InterfaceTest(unittest.TestCase):
+    def test_each_function_stands_in_its_file(self):
+        for name, arguments in (("spread", 2), ("apart", 3), ("matching", 3), ("cover", 3)):
+            function = getattr(crews, name)
+            self.assertEqual(function.__module__, "bothcome.crews")
+            self.assertEqual(len(inspect.signature(function).parameters), arguments)
+
+    def test_each_method_stands_in_the_class_itself(self):
+        self.assertEqual(trees.Tree.__module__, "bothcome.trees")
+        for name in ("__init__", "__len__", "__contains__", "__eq__", "roads", "distance", "on_way", "towards", "hung", "hung_point"):
+            self.assertIn(name, vars(trees.Tree))
+        self.assertIsInstance(vars(trees.Tree)["roads"], property)
+
+    def test_roads_is_not_assigned(self):
+        tree = trees.Tree([(0, 1)])
+        with self.assertRaises(AttributeError):
+            tree.roads = []
+        self.assertEqual(tree.roads, [(0, 1)])
+
+
+class FilesTest(unittest.TestCase):
+    def sources(self):
+        return sorted(FOLDER.rglob("*.py"))
+
+    def test_the_folder_holds_program_files_alone(self):
+        for path in FOLDER.rglob("*"):
+            if "__pycache__" not in path.parts:
+                self.assertTrue(path.is_dir() or path.suffix == ".py", path)
+
+    def test_plain_characters_and_short_lines_and_files(self):
+        for path in self.sources():
+            text = path.read_bytes()
+            self.assertTrue(all(sign == 10 or 32 <= sign <= 126 for sign in text), path)
+            rows = text.split(b"\n")
+            self.assertLess(len(rows), 400, path)
+            self.assertLessEqual(max(map(len, rows)), 120, path)
+
+
+if __name__ == "__main__":
+    unittest.main()
