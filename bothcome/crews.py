@@ -21,6 +21,13 @@ def _check_both(tree, crew, other):
         raise InvalidCrew("the crews have unlike numbers of helpers")
 
 
+def send(tree, crew, number, point):
+    """The crew when the helper with this number has gone to a point, and its way."""
+    sent = list(crew)
+    sent[number] = point
+    return (sent, tree.distance(crew[number], point))
+
+
 def spread(tree, crew):
     """The sum of the distances of all pairs of helpers."""
     check_crew(tree, crew)

@@ -1,4 +1,4 @@
-"""A slow model of trees and crews to test against: it walks unit step by unit step."""
+"""A slow model of trees, crews and rules to test against: it walks unit step by unit step."""
 
 from itertools import permutations
 
@@ -113,10 +113,11 @@ class Ways:
         self.roads = roads
         self.lines = {point: line_up(roads, point) for point in all_points(roads)}
         self.known = {}
+        self.known_ways = {}
 
     def distance(self, one, other):
         if (one, other) not in self.known:
-            self.known[one, other] = len(way(self.roads, one, other)) - 1
+            self.known[one, other] = len(self.way(one, other)) - 1
         return self.known[one, other]
 
     def sum_of(self, crew, other, numbers):
@@ -138,3 +139,56 @@ class Ways:
     def lower(self, crew, point):
         """How many helpers walk over this point, or stand at it, when all walk to the root."""
         return sum(point in self.lines[helper] for helper in crew)
+
+    def spread(self, crew):
+        return sum(self.distance(a, b) for k, a in enumerate(crew) for b in crew[:k])
+
+    def potential(self, crew, other):
+        return len(crew) * self.apart(crew, other) + self.spread(crew)
+
+    def way(self, one, other):
+        """All points on the way between two points, in their order."""
+        if (one, other) not in self.known_ways:
+            self.known_ways[one, other] = way(self.roads, one, other)
+        return self.known_ways[one, other]
+
+    def sees(self, crew, number, call):
+        """Whether nobody else is in the way of a helper, and none with a lesser number beside it."""
+        way_ahead = self.way(crew[number], call)[1:]
+        return crew[number] not in crew[:number] and not any(helper in way_ahead for helper in crew)
+
+    def seers(self, crew, call):
+        return [number for number in range(len(crew)) if self.sees(crew, number, call)]
+
+    def lead_both(self, crew, call):
+        """All who see the call go one step at the same time, until one is there."""
+        now, gone = list(crew), 0
+        while call not in now:
+            going = self.seers(now, call)
+            for number in going:
+                now[number] = self.way(now[number], call)[1]
+            gone += len(going)
+        return now, gone
+
+    def lead_nearest(self, crew, call):
+        number = min(range(len(crew)), key=lambda k: (self.distance(crew[k], call), k))
+        return self.sent(crew, number, call)
+
+    def sent(self, crew, number, call):
+        return list(crew[:number]) + [call] + list(crew[number + 1:]), self.distance(crew[number], call)
+
+    def planned(self, crew, calls, plan):
+        now, gone = list(crew), 0
+        for call, number in zip(calls, plan):
+            now, more = self.sent(now, number, call)
+            gone += more
+        return now, gone
+
+    def paper(self, crew, other, calls, plan):
+        rows = []
+        for call, number in zip(calls, plan):
+            other, plan_way = self.sent(other, number, call)
+            between = self.potential(crew, other)
+            crew, rule_way = self.lead_both(crew, call)
+            rows.append((plan_way, between, rule_way, self.potential(crew, other)))
+        return rows

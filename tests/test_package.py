@@ -4,22 +4,36 @@ import inspect
 import unittest
 from pathlib import Path
 
-from bothcome import crews, trees
+from bothcome import crews, papers, plans, rules, trees
 
 FOLDER = Path(trees.__file__).parent
+FUNCTIONS = [
+    (crews, "spread", 2), (crews, "apart", 3), (crews, "matching", 3), (crews, "cover", 3),
+    (rules, "lead", 4), (rules, "who_came", 2), (rules, "seers", 3), (rules, "run", 4),
+    (plans, "planned", 4),
+    (papers, "potential", 3), (papers, "paper", 5), (papers, "is_paper", 6),
+]
+METHODS = [
+    (trees, "Tree", [
+        "__init__", "__len__", "__contains__", "__eq__", "roads", "distance", "on_way", "towards", "hung", "hung_point",
+    ]),
+    (rules, "Nearest", ["__eq__"]),
+    (rules, "Both", ["__eq__"]),
+]
 
 
 class InterfaceTest(unittest.TestCase):
     def test_each_function_stands_in_its_file(self):
-        for name, arguments in (("spread", 2), ("apart", 3), ("matching", 3), ("cover", 3)):
-            function = getattr(crews, name)
-            self.assertEqual(function.__module__, "bothcome.crews")
+        for module, name, arguments in FUNCTIONS:
+            function = getattr(module, name)
+            self.assertEqual(function.__module__, module.__name__)
             self.assertEqual(len(inspect.signature(function).parameters), arguments)
 
     def test_each_method_stands_in_the_class_itself(self):
-        self.assertEqual(trees.Tree.__module__, "bothcome.trees")
-        for name in ("__init__", "__len__", "__contains__", "__eq__", "roads", "distance", "on_way", "towards", "hung", "hung_point"):
-            self.assertIn(name, vars(trees.Tree))
+        for module, name, methods in METHODS:
+            self.assertEqual(getattr(module, name).__module__, module.__name__)
+            for method in methods:
+                self.assertIn(method, vars(getattr(module, name)))
         self.assertIsInstance(vars(trees.Tree)["roads"], property)
 
     def test_roads_is_not_assigned(self):
