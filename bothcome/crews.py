@@ -31,13 +31,15 @@ def send(tree, crew, number, point):
 def spread(tree, crew):
     """The sum of the distances of all pairs of helpers."""
     check_crew(tree, crew)
-    return sum([tree.distance(crew[i], crew[k]) for i in range(len(crew)) for k in range(i)])
+    parts = _parts(tree, [(helper, 1) for helper in crew])
+    # Each helper below a step and each one who is not make a pair whose way goes over it.
+    return sum([many * (len(crew) - many) * (high - low) for _, low, high, many in parts])
 
 
 def apart(tree, crew, other):
     """The least sum of all matchings of two crews."""
-    partners = matching(tree, crew, other)
-    return sum([tree.distance(crew[i], other[k]) for i, k in enumerate(partners)])
+    # The sum of the cover, without a list of its single steps: roads may be long.
+    return sum([abs(many) * (high - low) for _, low, high, many in _differences(tree, crew, other)])
 
 
 def matching(tree, crew, other):
@@ -66,25 +68,37 @@ def _shared(tree, one, other):
 
 def cover(tree, crew, other):
     """The steps (v, up, many) that show that no matching has a lesser sum."""
-    _check_both(tree, crew, other)
     steps = []
-    for node in range(1, len(tree)):
-        # Between two neighbouring helpers on a road all steps have the same difference.
-        for low, high in _stretches(tree, node, crew + other):
-            many = abs(_many_below(tree, crew, (node, low)) - _many_below(tree, other, (node, low)))
-            if many > 0:
-                steps.extend([(node, up, many) for up in range(low, high)])
+    for node, low, high, many in sorted(_differences(tree, crew, other)):
+        steps.extend([(node, up, abs(many)) for up in range(low, high)])
     return steps
 
 
-def _stretches(tree, node, points):
-    """List the parts (low, high) of a node's road between the points on it."""
-    length = tree.roads[node - 1][1]
-    ups = [up for at, up in points if at == node]
-    bounds = sorted([0, length] + ups)
-    return list(zip(bounds, bounds[1:]))
+def _differences(tree, crew, other):
+    """List the parts of roads below which the crews have unlike numbers of helpers."""
+    _check_both(tree, crew, other)
+    return _parts(tree, [(helper, 1) for helper in crew] + [(helper, -1) for helper in other])
 
 
-def _many_below(tree, crew, point):
-    """Count the helpers who are at a point or behind it, seen from the root."""
-    return len([helper for helper in crew if tree.on_way(point, ROOT, helper)])
+def _parts(tree, counted):
+    """Cut the roads at counted points: list the parts (node, low, high, many).
+
+    Each point counts as the integer beside it says; many is the sum for all points on
+    the node's side of the part, and parts for which it is 0 are left out.
+    """
+    roads = tree.roads
+    counts = [[] for _ in range(len(tree))]
+    for (node, up), count in counted:
+        counts[node].append((up, count))
+    parts = []
+    # Parents have lesser numbers: so a node comes behind all that hang on it.
+    for node in range(len(roads), 0, -1):
+        parent, length = roads[node - 1]
+        low = many = 0
+        for up, count in sorted(counts[node]) + [(length, 0)]:
+            if many != 0 and up > low:
+                parts.append((node, low, up, many))
+            low = up
+            many = many + count
+        counts[parent].append((0, many))
+    return parts

@@ -126,11 +126,15 @@ class Tree:
 
     def _top(self, one, other):
         """The point of the way between two points that is nearest to the root."""
-        other_line = self._line(other[0])
-        node = [above for above in self._line(one[0]) if above in other_line][0]
-        # If one of both is on the road over this node, the way climbs up to there.
-        ups = [up for at, up in [one, other] if at == node]
-        return (node, max([0] + ups))
+        node, up = one
+        other_node, other_up = other
+        while node != other_node:
+            # Parents have lesser numbers: so the greater node is not above the other one.
+            if node > other_node:
+                node, up = self._parents[node], 0
+            else:
+                other_node, other_up = self._parents[other_node], 0
+        return (node, max(up, other_up))
 
     def _way_length(self, one, other):
         """The distance of two values that are known to be points."""

@@ -172,6 +172,111 @@ class AgainstAllPermutationsTest(unittest.TestCase):
                 self.assertTrue(is_same(apart(tree, crew, crew), 0))
 
 
+def counted_cover(roads, crew, other):
+    """The cover, counted for each step by the words of the document."""
+    steps = []
+    for v, (_, length) in enumerate(roads, 1):
+        for up in range(length):
+            numbers = [sum(on_side(roads, helper, v, up) for helper in helpers) for helpers in (crew, other)]
+            if numbers[0] != numbers[1]:
+                steps.append((v, up, max(numbers) - min(numbers)))
+    return steps
+
+
+def on_side(roads, helper, v, up):
+    """Whether a helper is in v, below v, or on the road of v at most up from v."""
+    node, height = helper
+    if node == v:
+        return height <= up
+    while node > v:
+        node = roads[node - 1][0]
+    return node == v
+
+
+def counted_spread(roads, crew):
+    """For each step, how many pairs have one helper on each side of it."""
+    pairs = 0
+    for v, (_, length) in enumerate(roads, 1):
+        for up in range(length):
+            below = sum(on_side(roads, helper, v, up) for helper in crew)
+            pairs += below * (len(crew) - below)
+    return pairs
+
+
+class StepByStepTest(unittest.TestCase):
+    LINE = [(node, 40) for node in range(9)]
+
+    def check(self, roads, crew, other):
+        tree = Tree(roads)
+        steps = counted_cover(roads, crew, other)
+        self.assertTrue(is_same(cover(tree, crew, other), steps), (roads, crew, other))
+        self.assertTrue(is_same(apart(tree, crew, other), sum(step[2] for step in steps)), (roads, crew, other))
+        self.assertTrue(is_same(spread(tree, crew), counted_spread(roads, crew)), (roads, crew))
+
+    def test_a_long_line_of_roads(self):
+        crew, other = [(9, 0), (9, 20), (8, 39), (9, 5)], [(9, 1), (8, 20), (7, 39), (9, 7)]
+        self.check(self.LINE, crew, other)
+        self.check(self.LINE, other, crew)
+        self.check(self.LINE, [(9, 0)] * 4, [(0, 0)] * 4)
+        self.check(self.LINE, [(9, 0), (0, 0), (5, 39), (5, 39)], [(5, 0), (4, 0), (4, 39), (5, 1)])
+
+    def test_drawn_trees_of_up_to_ten_nodes(self):
+        draw = Random(60)
+        for many_nodes in list(range(1, 11)) * 6:
+            roads = [(draw.randrange(v), draw.choice((1, 2, 7, 40))) for v in range(1, many_nodes)]
+            points = all_points(roads)
+            for many in (1, 2, 3, 4):
+                self.check(roads, *([draw.choice(points) for _ in range(many)] for _ in range(2)))
+
+    def test_drawn_crews_with_several_at_the_same_point(self):
+        draw = Random(61)
+        for many_nodes in list(range(2, 11)) * 3:
+            roads = [(draw.randrange(v), draw.choice((1, 3, 40))) for v in range(1, many_nodes)]
+            nodes = [(v, 0) for v in range(many_nodes)]
+            few = [draw.choice(nodes), draw.choice(all_points(roads)), (many_nodes - 1, roads[-1][1] - 1)]
+            self.check(roads, *([draw.choice(few) for _ in range(4)] for _ in range(2)))
+            self.check(roads, [few[0]] * 4, [few[1]] * 4)
+            self.check(roads, [few[1]] * 4, [few[1], few[1], few[2], few[2]])
+
+    def test_the_root_alone(self):
+        for many in (1, 2, 3, 4):
+            self.check([], [(0, 0)] * many, [(0, 0)] * many)
+
+    def test_rows_in_which_a_helper_is_moved_by_single_steps(self):
+        draw = Random(62)
+        for roads in [self.LINE, [(0, 40), (0, 3), (1, 40), (1, 2), (4, 9)], [(0, 1), (1, 1), (1, 1), (0, 2)]]:
+            tree, points = Tree(roads), all_points(roads)
+            crew, other = ([draw.choice(points) for _ in range(4)] for _ in range(2))
+            for _ in range(12):
+                number, goal = draw.randrange(4), draw.choice(points)
+                self.check(roads, crew, other)
+                crew[number] = tree.towards(crew[number], goal, min(1, tree.distance(crew[number], goal)))
+                self.check(roads, crew, other)
+
+
+class LongRoadsTest(unittest.TestCase):
+    def test_short_covers_on_long_roads(self):
+        tree = Tree([(0, BIG), (1, BIG), (0, 2)])
+        near, far = (1, BIG - 2), (2, BIG - 1)
+        self.assertTrue(is_same(cover(tree, [near], [(0, 0)]), [(1, BIG - 2, 1), (1, BIG - 1, 1)]))
+        self.assertTrue(is_same(cover(tree, [far, near], [near, (1, 0)]), [(2, BIG - 1, 1)]))
+        steps = [(1, BIG - 2, 2), (1, BIG - 1, 2), (3, 0, 1), (3, 1, 1)]
+        self.assertTrue(is_same(cover(tree, [(3, 0), far, (0, 0)], [near, near, far]), steps))
+        self.assertTrue(is_same(cover(tree, [(2, 0)] * 3 + [(2, 5)], [(2, 0)] * 4), [(2, up, 1) for up in range(5)]))
+
+    def test_roads_that_are_all_longer_by_the_same_factor(self):
+        draw = Random(63)
+        for roads in SMALL_TREES:
+            tree, ways, points = Tree([(parent, length * BIG) for parent, length in roads]), Ways(roads), all_points(roads)
+            for many in (1, 2, 3, 4, 4):
+                crew, other = ([draw.choice(points) for _ in range(many)] for _ in range(2))
+                long_crew, long_other = ([(v, up * BIG) for v, up in helpers] for helpers in (crew, other))
+                self.assertTrue(is_same(apart(tree, long_crew, long_other), ways.apart(crew, other) * BIG))
+                self.assertTrue(is_same(spread(tree, long_crew), ways.spread(crew) * BIG))
+                numbers = matching(tree, long_crew, long_other)
+                self.assertEqual(ways.sum_of(crew, other, numbers), ways.apart(crew, other))
+
+
 class InvalidCrewTest(unittest.TestCase):
     def setUp(self):
         self.tree = Tree(TREE)
