@@ -1,6 +1,8 @@
-"""A slow model of trees, crews and rules to test against: it walks unit step by unit step."""
+"""A slow model of the package to test against: it walks unit step by unit step."""
 
 from itertools import permutations
+
+from bothcome.rules import Both
 
 # Every kind of shape, with short roads: these trees are walked step by step.
 SMALL_TREES = [
@@ -192,3 +194,78 @@ class Ways:
             crew, rule_way = self.lead_both(crew, call)
             rows.append((plan_way, between, rule_way, self.potential(crew, other)))
         return rows
+
+    def lead(self, rule, crew, call):
+        return self.lead_both(crew, call) if rule == Both() else self.lead_nearest(crew, call)
+
+    def run(self, rule, crew, calls):
+        gone = 0
+        for call in calls:
+            crew, more = self.lead(rule, crew, call)
+            gone += more
+        return crew, gone
+
+    def rivals(self, rule, crew, places, many):
+        """The calls, the rivals' plans and the lasts, as the document says them, word by word."""
+        calls, plans, lasts = [], [[] for _ in crew], []
+        last, now, rivals = list(crew), list(crew), [list(crew) for _ in crew]
+        for t in range(many):
+            (call,) = [place for place in places if place not in last]
+            for z, helpers in enumerate(rivals):
+                if t == 0:
+                    number = z
+                elif call not in helpers:
+                    number = helpers.index(calls[-1])
+                else:
+                    number = helpers.index(call)
+                plans[z].append(number)
+                helpers[number] = call
+            now = self.lead(rule, now, call)[0]
+            came = min(number for number, helper in enumerate(now) if helper == call)
+            lasts.append(self.distance(last[came], call))
+            last[came] = call
+            calls.append(call)
+        return calls, plans, lasts
+
+    def standings(self, rule, crew, places, most=10 ** 9):
+        """All joint standings that can come, each with what leads on: (behind, rule's way, plan's distance).
+
+        Ends early when there are more than most.
+        """
+        found = {(tuple(crew), tuple(sorted(crew))): []}
+        queue = list(found)
+        for now, other in queue:
+            for call in places:
+                led, gone = self.lead(rule, list(now), call)
+                for number in range(len(other)):
+                    sent, far = self.sent(list(other), number, call)
+                    behind = (tuple(led), tuple(sorted(sent)))
+                    if behind not in found:
+                        found[behind] = []
+                        queue.append(behind)
+                    found[now, other].append((behind, gone, far))
+            if len(found) > most:
+                return found
+        return found
+
+    def around(self, rule, standing, calls, numbers):
+        """Where calls and numbers lead from a joint standing, the rule's way and the plan's way."""
+        (now, other), gone, far = standing, 0, 0
+        for call, number in zip(calls, numbers):
+            now, more = self.lead(rule, list(now), call)
+            other, way = self.sent(list(other), number, call)
+            other, gone, far = sorted(other), gone + more, far + way
+        return (now, other), gone, far
+
+
+def shows(found, factor, items):
+    """Whether items show that a factor is kept, by the words of the document; found: of Ways.standings."""
+    told = {}
+    for (crew, other), number in items:
+        told.setdefault((tuple(crew), tuple(other)), []).append(number)
+    if set(told) != set(found) or any(len(numbers) != 1 for numbers in told.values()):
+        return False
+    return all(
+        told[behind][0] - told[standing][0] >= factor[1] * gone - factor[0] * far
+        for standing, steps in found.items() for behind, gone, far in steps
+    )

@@ -4,7 +4,7 @@ import inspect
 import unittest
 from pathlib import Path
 
-from bothcome import crews, papers, plans, rules, trees
+from bothcome import crews, factors, nearest, papers, plans, rivals, rules, trees
 
 FOLDER = Path(trees.__file__).parent
 FUNCTIONS = [
@@ -12,6 +12,9 @@ FUNCTIONS = [
     (rules, "lead", 4), (rules, "who_came", 2), (rules, "seers", 3), (rules, "run", 4),
     (plans, "planned", 4),
     (papers, "potential", 3), (papers, "paper", 5), (papers, "is_paper", 6),
+    (rivals, "rivals", 5), (rivals, "best_rival", 5),
+    (nearest, "beyond", 4),
+    (factors, "ring", 5), (factors, "numbers", 5), (factors, "is_numbers", 6), (factors, "least_factor", 4),
 ]
 METHODS = [
     (trees, "Tree", [
