@@ -109,7 +109,7 @@ def numbers(tree, places, crew, rule, factor):
     steps, ahead = _search(standings.rows, factor)
     if steps is not None:
         return None
-    # The more excess is behind a standing, the less can still be ahead of it.
+    # Along a step, what is ahead falls by the excess of the step or more: so its negative rises.
     return [(standings.shown(number), -excess) for number, excess in enumerate(ahead)]
 
 
@@ -169,10 +169,10 @@ def _excess(step, factor):
 def _search(rows, factor):
     """Search for a ring that breaks a factor: a tuple (its steps or None, what is ahead).
 
-    Without such a ring there is for each standing a greatest excess that is ahead of it.
-    It is raised step by step, and the step that raised it is chosen. Chosen steps that
-    form a ring have an excess in all: the last one of them was chosen to raise what the
-    others had raised already.
+    Without such a ring there is for each standing a greatest excess that steps from it
+    on can have in all. It is raised step by step, and the step that raised it last is
+    chosen. If chosen steps form a ring, the last one of them raised what the others were
+    based on: so all together they have an excess.
     """
     weighted = [[(step[0], _excess(step, factor), step) for step in steps] for steps in rows]
     ahead = [0 for _ in rows]

@@ -40,7 +40,7 @@ def _check_one_more(tree, crew, places):
 
 def _calls_at_free_places(tree, rule, crew, places, many):
     """The calls, each at the only place that is no last place, and the distances from last places."""
-    led_crew = list(crew)
+    led_crew = crew
     last_places = list(crew)
     calls = []
     lasts = []

@@ -269,3 +269,25 @@ def shows(found, factor, items):
         told[behind][0] - told[standing][0] >= factor[1] * gone - factor[0] * far
         for standing, steps in found.items() for behind, gone, far in steps
     )
+
+
+def subdivided(roads, at, up):
+    """The roads with a node more on the road of one node, and a function from old points to new ones.
+
+    The new node has the number of that node, and it and all nodes behind it have one number more.
+    """
+    parent, length = roads[at - 1]
+    assert 0 < up < length
+
+    def moved(node):
+        return node + 1 if node >= at else node
+
+    new = [road for road in roads[:at - 1]]
+    new += [(parent, length - up), (at, up)]
+    new += [(moved(other), size) for other, size in roads[at:]]
+
+    def point(old):
+        node, far = old
+        return (at, far - up) if node == at and far >= up else (moved(node), far)
+
+    return new, point

@@ -293,6 +293,13 @@ class IsNumbersTest(Checks):
                 wanted = rise <= change <= -rise
                 self.assertIs(is_numbers(tree, places, [(1, 0)], Both(), factor, items), wanted)
 
+    def test_a_number_that_is_no_integer(self):
+        tree, places = Tree([(0, 3)]), [(0, 0), (1, 0)]
+        there, here = ([(1, 0)], [(1, 0)]), ([(0, 0)], [(0, 0)])
+        self.assertIs(is_numbers(tree, places, [(1, 0)], Both(), (2, 1), [(there, 1), (here, 0)]), True)
+        for value in (True, 1.0, None):
+            self.assertIs(is_numbers(tree, places, [(1, 0)], Both(), (2, 1), [(there, value), (here, 0)]), False)
+
     def test_a_factor_that_is_not_kept(self):
         tree = Tree(TREE)
         items = numbers(tree, PLACES, CREW, Both(), (2, 1))

@@ -4,25 +4,42 @@ import inspect
 import unittest
 from pathlib import Path
 
-from bothcome import crews, factors, nearest, papers, plans, rivals, rules, trees
+from bothcome import best, console, crews, factors, nearest, papers, plans, rivals, rules, texts, trees, watches
 
 FOLDER = Path(trees.__file__).parent
 FUNCTIONS = [
-    (crews, "spread", 2), (crews, "apart", 3), (crews, "matching", 3), (crews, "cover", 3),
-    (rules, "lead", 4), (rules, "who_came", 2), (rules, "seers", 3), (rules, "run", 4),
-    (plans, "planned", 4),
-    (papers, "potential", 3), (papers, "paper", 5), (papers, "is_paper", 6),
-    (rivals, "rivals", 5), (rivals, "best_rival", 5),
-    (nearest, "beyond", 4),
-    (factors, "ring", 5), (factors, "numbers", 5), (factors, "is_numbers", 6), (factors, "least_factor", 4),
+    (crews, "spread", "tree crew"), (crews, "apart", "tree crew other"), (crews, "matching", "tree crew other"),
+    (crews, "cover", "tree crew other"),
+    (rules, "lead", "tree rule crew call"), (rules, "who_came", "crew call"), (rules, "seers", "tree crew call"),
+    (rules, "run", "tree rule crew calls"),
+    (plans, "planned", "tree crew calls plan"),
+    (papers, "potential", "tree crew other"), (papers, "paper", "tree crew other calls plan"),
+    (papers, "is_paper", "tree crew other calls plan items"),
+    (rivals, "rivals", "tree rule crew places many"), (rivals, "best_rival", "tree rule crew places many"),
+    (nearest, "beyond", "tree k factor slack"),
+    (factors, "ring", "tree places crew rule factor"), (factors, "numbers", "tree places crew rule factor"),
+    (factors, "is_numbers", "tree places crew rule factor items"), (factors, "least_factor", "tree places crew rule"),
+    (best, "best_way", "tree crew calls"), (best, "best_plan", "tree crew calls"), (best, "works", "tree crew calls ends"),
+    (texts, "show_tree", "tree"), (texts, "show_points", "points"), (texts, "read_tree", "text"),
+    (texts, "read_points", "text"),
 ]
 METHODS = [
-    (trees, "Tree", [
-        "__init__", "__len__", "__contains__", "__eq__", "roads", "distance", "on_way", "towards", "hung", "hung_point",
-    ]),
-    (rules, "Nearest", ["__eq__"]),
-    (rules, "Both", ["__eq__"]),
+    (trees, "Tree", {
+        "__init__": "roads", "__len__": "", "__contains__": "x", "__eq__": "other", "distance": "one other",
+        "on_way": "point one other", "towards": "one other far", "hung": "node", "hung_point": "node point",
+    }),
+    (rules, "Nearest", {"__eq__": "other"}),
+    (rules, "Both", {"__eq__": "other"}),
+    (watches, "Watch", {
+        "__init__": "tree crew rule", "__len__": "", "__iter__": "", "call": "point", "back": "count",
+    }),
+    (console, "Console", {"__init__": "", "execute": "command"}),
 ]
+PROPERTIES = [(trees, "Tree", "roads"), (watches, "Watch", "crew"), (watches, "Watch", "calls"), (watches, "Watch", "way")]
+
+
+def parameters(function):
+    return " ".join(inspect.signature(function).parameters)
 
 
 class InterfaceTest(unittest.TestCase):
@@ -30,14 +47,19 @@ class InterfaceTest(unittest.TestCase):
         for module, name, arguments in FUNCTIONS:
             function = getattr(module, name)
             self.assertEqual(function.__module__, module.__name__)
-            self.assertEqual(len(inspect.signature(function).parameters), arguments)
+            self.assertEqual(parameters(function), arguments)
 
     def test_each_method_stands_in_the_class_itself(self):
         for module, name, methods in METHODS:
             self.assertEqual(getattr(module, name).__module__, module.__name__)
-            for method in methods:
-                self.assertIn(method, vars(getattr(module, name)))
-        self.assertIsInstance(vars(trees.Tree)["roads"], property)
+            for method, arguments in methods.items():
+                self.assertEqual(parameters(vars(getattr(module, name))[method]), f"self {arguments}".strip())
+        for module, name, attribute in PROPERTIES:
+            self.assertIsInstance(vars(getattr(module, name))[attribute], property)
+
+    def test_count_of_back_is_passed_by_its_name_alone(self):
+        count = inspect.signature(watches.Watch.back).parameters["count"]
+        self.assertEqual((count.kind, count.default), (inspect.Parameter.KEYWORD_ONLY, 1))
 
     def test_roads_is_not_assigned(self):
         tree = trees.Tree([(0, 1)])
